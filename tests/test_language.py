@@ -1,0 +1,143 @@
+"""The package's own files keep to the small part of Python that it is written in.
+
+This looks for what can be seen of the rules line by line and node by node; it doesn't stand for reading them.
+"""
+
+import ast
+import builtins
+import pathlib
+import re
+import unittest
+
+PACKAGE = pathlib.Path(__file__).resolve().parent.parent / "mainskeep"
+
+OWN_NAMES = set("""len range enumerate zip min max sum abs sorted reversed int str bool bytes list tuple dict set
+    frozenset isinstance ord repr any all divmod Exception ValueError TypeError KeyError IndexError LookupError
+    ZeroDivisionError ArithmeticError OverflowError RuntimeError NotImplementedError AttributeError
+    StopIteration""".split())
+UNDERSCORED = ("__init__", "__eq__", "__repr__", "__str__", "__len__", "__all__", "__version__")
+METHODS = set("""append clear copy count endswith extend find get index insert isalnum isalpha isdigit islower isspace
+    isupper items join keys ljust lower lstrip partition pop remove replace reverse rfind rjust rpartition rsplit
+    rstrip setdefault split splitlines startswith strip update upper values zfill bit_length title capitalize
+    swapcase casefold center expandtabs removeprefix removesuffix rindex isascii isdecimal isnumeric istitle
+    isidentifier isprintable encode decode hex fromhex to_bytes from_bytes translate maketrans sort add discard
+    __init__""".split())
+WORDS = re.compile(r"\b(type|typing|typing_extensions|enum|Enum|IntEnum|StrEnum|Flag|IntFlag|Generic|Protocol|ABC"
+                   r"|ABCMeta|namedtuple|NamedTuple|TypedDict|TYPE_CHECKING|abstractmethod)\b"
+                   r"|dataclass|overload|contextmanager")
+TOP = (ast.Expr, ast.ImportFrom, ast.FunctionDef, ast.ClassDef, ast.Assign, ast.AnnAssign)
+NOT_USED = (ast.With, ast.Match, ast.Global, ast.Nonlocal, ast.Yield, ast.YieldFrom, ast.Await, ast.AsyncFunctionDef,
+            ast.AsyncFor, ast.AsyncWith, ast.GeneratorExp, ast.NamedExpr, ast.Div, ast.MatMult, ast.Import)
+
+
+def trees():
+    for path in sorted(PACKAGE.rglob("*.py")):
+        text = path.read_text(encoding="utf-8")
+        yield path, text, ast.parse(text)
+
+
+def bound_names(tree):
+    for node in ast.walk(tree):
+        if isinstance(node, ast.Name) and isinstance(node.ctx, ast.Store):
+            yield node.id
+        elif isinstance(node, (ast.FunctionDef, ast.ClassDef)):
+            yield node.name
+        elif isinstance(node, ast.arg):
+            yield node.arg
+
+
+class TestLanguage(unittest.TestCase):
+    def test_nothing_else_lies_in_the_package(self):
+        self.assertTrue((PACKAGE / "__init__.py").is_file())
+        for path in PACKAGE.rglob("*"):
+            if "__pycache__" not in path.parts and path.is_file():
+                self.assertRegex(path.name, r"^[a-z0-9_]+\.py$")
+
+    def test_sizes_and_signs(self):
+        for path, text, tree in trees():
+            rows = text.split("\n")
+            self.assertLessEqual(len(rows), 400, path)
+            for number, row in enumerate(rows, start=1):
+                self.assertLessEqual(len(row), 120, (path, number))
+                self.assertRegex(row, r"^[ -~]*$", (path, number))
+                self.assertIsNone(WORDS.search(row), (path, number))
+            for node in ast.walk(tree):
+                if isinstance(node, ast.FunctionDef):
+                    self.assertLessEqual(node.end_lineno - node.lineno + 1, 40, (path, node.name))
+
+    def test_the_top_of_a_file(self):
+        for path, text, tree in trees():
+            for node in tree.body:
+                self.assertIsInstance(node, TOP, (path, node.lineno))
+
+    def test_imports_are_the_package_s_own(self):
+        for path, text, tree in trees():
+            for node in ast.walk(tree):
+                if isinstance(node, ast.ImportFrom):
+                    self.assertEqual(node.level, 0, (path, node.lineno))
+                    self.assertRegex(node.module, r"^(mainskeep\.[a-z_]+|__future__)$", (path, node.lineno))
+                    self.assertNotIn("*", [name.name for name in node.names], (path, node.lineno))
+
+    def test_statements_and_values(self):
+        for path, text, tree in trees():
+            for node in ast.walk(tree):
+                where = (path, getattr(node, "lineno", None))
+                self.assertNotIsInstance(node, NOT_USED, where)
+                if isinstance(node, ast.Constant):
+                    self.assertNotIsInstance(node.value, (float, complex), where)
+                    if isinstance(node.value, str):
+                        self.assertNotIn("%", node.value, where)
+                if isinstance(node, (ast.For, ast.While)):
+                    self.assertEqual(node.orelse, [], where)
+                if isinstance(node, (ast.FunctionDef, ast.ClassDef)):
+                    self.assertEqual(node.decorator_list, [], where)
+                if isinstance(node, ast.ExceptHandler):
+                    self.assertIsNotNone(node.type, where)
+
+    def test_is_stands_beside_none_and_truths(self):
+        for path, text, tree in trees():
+            for node in ast.walk(tree):
+                if isinstance(node, ast.Compare):
+                    for operator, other in zip(node.ops, node.comparators):
+                        if isinstance(operator, (ast.Is, ast.IsNot)):
+                            self.assertIn(ast.dump(other), [ast.dump(ast.Constant(one)) for one in (None, True, False)])
+
+    def test_parameters(self):
+        for path, text, tree in trees():
+            for node in ast.walk(tree):
+                if isinstance(node, ast.arguments):
+                    self.assertEqual((node.vararg, node.kwarg, node.posonlyargs), (None, None, []), path)
+
+    def test_names(self):
+        for path, text, tree in trees():
+            for name in bound_names(tree):
+                if name not in UNDERSCORED:
+                    self.assertRegex(name, r"^[A-Za-z][A-Za-z0-9_]*$", path)
+                    self.assertNotIn(name, dir(builtins), path)
+
+    def test_python_s_own_names(self):
+        for path, text, tree in trees():
+            bound = set(bound_names(tree))
+            for node in ast.walk(tree):
+                if isinstance(node, ast.ImportFrom):
+                    bound |= {name.asname or name.name for name in node.names}
+            for node in ast.walk(tree):
+                if isinstance(node, ast.Name) and isinstance(node.ctx, ast.Load):
+                    self.assertIn(node.id, OWN_NAMES | bound, (path, node.lineno))
+
+    def test_methods_and_values(self):
+        own = set()
+        for path, text, tree in trees():
+            for node in ast.walk(tree):
+                if isinstance(node, ast.Attribute) and isinstance(node.ctx, ast.Store):
+                    own.add(node.attr)
+                elif isinstance(node, ast.ClassDef):
+                    own |= {part.name for part in node.body if isinstance(part, ast.FunctionDef)}
+        for path, text, tree in trees():
+            for node in ast.walk(tree):
+                if isinstance(node, ast.Attribute):
+                    self.assertIn(node.attr, METHODS | own, (path, node.lineno))
+
+
+if __name__ == "__main__":
+    unittest.main()
