@@ -1,12 +1,7 @@
 """Fractions: tuples (top, bottom) of whole numbers without a common divisor, the bottom from 1 on."""
 
 from mainskeep.errors import NoFraction
-
-
-def is_whole_number(thing):
-    """Whether any thing is a whole number."""
-    # Python counts True and False among the whole numbers; the program doesn't.
-    return isinstance(thing, int) and not isinstance(thing, bool)
+from mainskeep.kinds import is_row, is_whole_number
 
 
 def common_divisor(one, other):
@@ -56,7 +51,7 @@ def is_less(u, v):
 
 def is_fraction(thing):
     """Whether any thing is a fraction."""
-    if not isinstance(thing, tuple) or len(thing) != 2:
+    if not is_row(thing, 2, 2):
         return False
     top, bottom = thing
     if not is_whole_number(top) or not is_whole_number(bottom):

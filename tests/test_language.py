@@ -115,6 +115,70 @@ class TestLanguage(unittest.TestCase):
                     self.assertRegex(name, r"^[A-Za-z][A-Za-z0-9_]*$", path)
                     self.assertNotIn(name, dir(builtins), path)
 
+    def test_no_local_is_called_like_an_import_or_a_class(self):
+        for path, text, tree in trees():
+            taken = set()
+            for node in tree.body:
+                if isinstance(node, ast.ImportFrom):
+                    taken |= {name.asname or name.name for name in node.names}
+                elif isinstance(node, ast.ClassDef):
+                    taken.add(node.name)
+            for node in ast.walk(tree):
+                if isinstance(node, ast.arg):
+                    self.assertNotIn(node.arg, taken, (path, node.lineno))
+                elif isinstance(node, ast.Name) and isinstance(node.ctx, ast.Store):
+                    self.assertNotIn(node.id, taken, (path, node.lineno))
+
+    def test_each_name_of_a_file_s_top_once(self):
+        for path, text, tree in trees():
+            names = []
+            for node in tree.body:
+                if isinstance(node, ast.ImportFrom):
+                    names += [name.asname or name.name for name in node.names]
+                elif isinstance(node, (ast.FunctionDef, ast.ClassDef)):
+                    names.append(node.name)
+                elif isinstance(node, ast.Assign):
+                    names += [target.id for target in node.targets]
+            self.assertEqual(len(names), len(set(names)), path)
+
+    def test_names_are_drawn_from_the_file_that_defines_them(self):
+        defined = {path.stem: {node.name for node in tree.body if isinstance(node, (ast.FunctionDef, ast.ClassDef))}
+                   | {target.id for node in tree.body if isinstance(node, ast.Assign) for target in node.targets}
+                   for path, text, tree in trees()}
+        for path, text, tree in trees():
+            for node in tree.body:
+                if isinstance(node, ast.ImportFrom):
+                    for name in node.names:
+                        self.assertIn(name.name, defined[node.module.split(".")[-1]], (path, node.lineno))
+
+    def test_no_two_files_draw_from_one_another(self):
+        drawn = {path.stem: {node.module.split(".")[-1] for node in tree.body if isinstance(node, ast.ImportFrom)}
+                 for path, text, tree in trees()}
+        left = dict(drawn)
+        while left:
+            free = [name for name in left if not left[name] & set(left)]
+            self.assertTrue(free, left)
+            for name in free:
+                del left[name]
+
+    def test_all_that_is_drawn_is_used(self):
+        for path, text, tree in trees():
+            used = {node.id for node in ast.walk(tree) if isinstance(node, ast.Name)}
+            for node in tree.body:
+                if isinstance(node, ast.ImportFrom):
+                    for name in node.names:
+                        self.assertIn(name.asname or name.name, used, (path, node.lineno))
+
+    def test_no_name_is_a_method_and_a_value(self):
+        methods, values = set(), set()
+        for path, text, tree in trees():
+            for node in ast.walk(tree):
+                if isinstance(node, ast.ClassDef):
+                    methods |= {part.name for part in node.body if isinstance(part, ast.FunctionDef)}
+                elif isinstance(node, ast.Attribute) and isinstance(node.ctx, ast.Store):
+                    values.add(node.attr)
+        self.assertEqual(methods & values, set())
+
     def test_python_s_own_names(self):
         for path, text, tree in trees():
             bound = set(bound_names(tree))

@@ -4,14 +4,9 @@ import copy
 import fractions as reference
 import unittest
 
+from drawn import LONG, Numbers, ratio
 from mainskeep.fractions import is_fraction
 from mainskeep.tables import solved
-
-LONG = 10 ** 40 - 1
-
-
-def ratio(top, bottom=1):
-    return reference.Fraction(top, bottom).as_integer_ratio()
 
 
 def whole(numbers):
@@ -26,29 +21,6 @@ def applied(table, answer):
     """What the table gives of the answer, reckoned without the program."""
     return [sum(reference.Fraction(*part) * reference.Fraction(*other) for part, other in zip(row, answer))
             .as_integer_ratio() for row in table]
-
-
-class Numbers:
-    """The same row of numbers in each run, so that a failure comes again."""
-
-    def __init__(self, seed):
-        self.seed = seed
-
-    def below(self, bound):
-        found = 0
-        for _ in range(5):
-            self.seed = (self.seed * 6364136223846793005 + 1442695040888963407) % 2 ** 64
-            found = found * 2 ** 32 + (self.seed >> 32)
-        return found % bound
-
-    def fraction(self, bound):
-        return ratio(self.below(2 * bound + 1) - bound, self.below(bound) + 1)
-
-    def fractions(self, many, bound):
-        return [self.fraction(bound) for _ in range(many)]
-
-    def table(self, many, bound):
-        return [self.fractions(many, bound) for _ in range(many)]
 
 
 def determinant(table):
