@@ -1,6 +1,7 @@
 """Points 2, 3, 12, 13 and 14: prices by weights, what weights show, the cheapest making."""
 
 import copy
+import itertools
 import unittest
 from fractions import Fraction
 
@@ -144,9 +145,9 @@ class TestSheets(unittest.TestCase):
         sheet = Sheet([-10], ((0, 5, 7),) * 4, [])
         number = sheet.wrong()
         self.assertEqual(number, 0)
-        self.assertEqual(sheet.mending(sheet.row_of(number)), 1)
-        sheet.free.reverse()
-        self.assertEqual(sheet.mending(sheet.row_of(number)), 3)
+        for order in itertools.permutations((1, 2, 3)):
+            sheet.free = list(order)
+            self.assertEqual(sheet.mending(sheet.row_of(number)), order.index(1) + 1)
 
     def test_what_is_wrong_by_the_least_number(self):
         sheet = Sheet([-20, 0], ((0, 5, 7), (0, 9, 7)), walls(PAIR))
