@@ -3,6 +3,7 @@
 import unittest
 
 from drawn import LONG, OTHER_THINGS, Numbers, assert_unchanged, put_at, spoilt
+from housed import drawn_house
 from mainskeep.houses import is_house
 
 PAIR = (2, ((0, 1, 1, 10),))
@@ -174,30 +175,15 @@ class TestBounds(HouseTest):
 
 
 class TestDrawn(HouseTest):
-    def drawn_work(self, numbers, many):
-        costs = sorted(numbers.within(0, 99) for _ in range(2))
-        pieces = tuple((numbers.within(1, 20), cost) for cost in costs)[:numbers.within(1, 2)]
-        return (numbers.below(many), numbers.within(0, 20), numbers.within(0, 99), pieces, numbers.within(0, 99),
-                numbers.within(1, 2), numbers.within(1, 2), numbers.below(2) == 1)
-
-    def drawn_house(self, numbers):
-        net = numbers.any_net()
-        works = tuple(self.drawn_work(numbers, net[0]) for _ in range(numbers.below(4)))
-        top, taken = numbers.within(1, 2), numbers.within(1, 20)
-        store = (numbers.below(net[0]), top, numbers.within(0, top), taken, numbers.within(0, taken))
-        hours = tuple(tuple((numbers.below(net[0]), numbers.within(0, 30), numbers.within(0, 100))
-                            for _ in range(numbers.below(4))) for _ in range(numbers.within(1, 3)))
-        return (net, works, numbers.one_of((None, store)), hours)
-
     def test_drawn_houses(self):
         numbers = Numbers(167)
         for _ in range(200):
-            self.assert_is(True, self.drawn_house(numbers))
+            self.assert_is(True, drawn_house(numbers))
 
     def test_things_near_drawn_houses(self):
         numbers = Numbers(173)
         for _ in range(20):
-            for way, thing in spoilt(self.drawn_house(numbers)):
+            for way, thing in spoilt(drawn_house(numbers)):
                 if way != (2,) or thing[2] is not None:
                     self.assertIs(is_house(thing), False, thing)
 
