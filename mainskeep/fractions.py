@@ -43,6 +43,14 @@ def over(u, v):
     return fraction(u[0] * v[1], u[1] * v[0])
 
 
+def summed(parts):
+    """The sum of a list of fractions."""
+    found = (0, 1)
+    for part in parts:
+        found = plus(found, part)
+    return found
+
+
 def is_less(u, v):
     """Whether the first fraction is worth less than the second one."""
     # Bottoms are above 0, so multiplying by them keeps the order.

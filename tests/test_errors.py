@@ -3,9 +3,34 @@
 import unittest
 
 from mainskeep import errors
+from mainskeep.desk import Desk
+from mainskeep.fractions import fraction, over
+from mainskeep.looker import look
+from mainskeep.money import settled
+from mainskeep.nets import without
+from mainskeep.streams import behind_loss, heights, streams
+from mainskeep.texts import read_house
 
 PLAIN = ("NoFraction", "NoPuts", "NoBalance", "NoLine", "NoLoss", "NoText", "NoHouse", "NoRow", "NoNumber", "NoDeed")
 WITH_VALUE = {"NoPaper": "at", "NoMaking": "hour"}
+
+PAIR = (2, ((0, 1, 1, 10),))
+HOUSE = (PAIR, (), None, ((),))
+RUN = ((0, 1), [(((), 0), [], ((0, 1), ()))])
+TEXT = "net 2\nline 0 1 1 10\nhour"
+EVEN = [(0, 1), (0, 1)]
+# What is asked, and the name of the refusal.
+REFUSED = (
+    (lambda: fraction(1, 0), "NoFraction"), (lambda: over((1, 1), (0, 1)), "NoFraction"),
+    (lambda: heights(PAIR, None), "NoPuts"), (lambda: streams(PAIR, [(1, 1), (0, 1)]), "NoBalance"),
+    (lambda: without(PAIR, 1), "NoLine"), (lambda: without(PAIR, 0), "NoLoss"),
+    (lambda: behind_loss(PAIR, EVEN, True), "NoLine"), (lambda: behind_loss(PAIR, EVEN, 0), "NoLoss"),
+    (lambda: look(HOUSE, ()), "NoPaper"), (lambda: settled(HOUSE, RUN, (((0, 1, 100),),)), "NoMaking"),
+    (lambda: read_house(0), "NoText"), (lambda: read_house("net 2\nhour"), "NoHouse"),
+    (lambda: Desk(None), "NoText"), (lambda: Desk("net 1"), "NoHouse"),
+    (lambda: Desk(TEXT).say(None), "NoRow"), (lambda: Desk(TEXT).say("lose 1"), "NoNumber"),
+    (lambda: Desk(TEXT).say("lose 0"), "NoLoss"), (lambda: Desk(TEXT).say("undo"), "NoDeed"),
+)
 
 
 class TestErrors(unittest.TestCase):
@@ -49,6 +74,16 @@ class TestErrors(unittest.TestCase):
         with self.assertRaises(errors.NoMaking) as making:
             raise errors.NoMaking(2)
         self.assertEqual(making.exception.hour, 2)
+
+    def test_each_refusal_is_raised_as_its_own_class_alone(self):
+        self.assertEqual({name for asked, name in REFUSED}, {*PLAIN, *WITH_VALUE})
+        for asked, name in REFUSED:
+            with self.subTest(name=name):
+                with self.assertRaises(ValueError) as caught:
+                    asked()
+                self.assertIs(type(caught.exception), getattr(errors, name))
+                if name in WITH_VALUE:
+                    self.assertIs(type(getattr(caught.exception, WITH_VALUE[name])), int)
 
     def test_two_objects_keep_their_own_values(self):
         first, second = errors.NoPaper(1), errors.NoPaper(2)
